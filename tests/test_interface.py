@@ -1,0 +1,59 @@
+"""The interface: names, where each is defined, arguments by place, by name, by name alone."""
+
+import importlib
+import inspect
+import unittest
+
+FUNCTIONS = {
+    "words": ["is_word(thing)", "is_number(thing)", "is_names(thing)"],
+    "literals": ["is_literal(thing)", "is_clause(thing)", "contrary(literal)"],
+    "forms": ["are_clauses(thing)", "is_form(thing)", "names_in(clauses)", "meets(names, row, clause)", "met(form, row)"],
+    "putting": ["put(clauses, literal)", "put_all(clauses, literals)", "form_put(form, literal)"],
+    "grouping": ["groups(clauses)"],
+    "rows": ["all_rows(names)", "models(form, *, having=())", "count_by_rows(form, *, having=())",
+             "count_by_trues(form, *, having=())"],
+    "fractions": ["is_fraction(thing)", "plus(one, other)", "times(one, other)"],
+    "weights": ["is_weights(thing)", "weight_of(names, row, weights, *, free=(1, 1))",
+                "weigh_by_rows(form, weights, *, free=(1, 1))"],
+    "sentences": ["is_sentence(thing)", "sentence_names(sentence)", "truth_of(sentence, row)"],
+    "forming": ["formed(sentence, *, head='h')"],
+    "pairs": ["together(one, other)", "either(one, other)"],
+    "trailchecker": ["lets_trail(form, thing)"],
+    "walking": ["trail_of(form, *, most=4000)", "counted(form, *, most=4000)"],
+}
+CLASSES = {
+    "counter": {"Counter": [
+        "ask(self, form, *, most=4000)", "knows(self, clauses)", "depth(self)", "clear(self)", "__len__(self)",
+        "__str__(self)", "__eq__(self, other)", "__ne__(self, other)", "__init__(self)"]},
+}
+
+
+def module(name):
+    return importlib.import_module("waycircuits." + name)
+
+
+class Interface(unittest.TestCase):
+    def check(self, place, owner, told):
+        name = told.split("(")[0]
+        self.assertIn(name, vars(owner), told)
+        function = vars(owner)[name]
+        self.assertTrue(inspect.isfunction(function), told)
+        self.assertEqual(function.__module__, place.__name__, told)
+        self.assertEqual(name + str(inspect.signature(function)), told)
+
+    def test_functions_are_defined_where_they_are_listed(self):
+        for name, listed in FUNCTIONS.items():
+            for told in listed:
+                self.check(module(name), module(name), told)
+
+    def test_methods_are_defined_in_the_class_itself(self):
+        for name, classes in CLASSES.items():
+            for class_name, listed in classes.items():
+                owner = getattr(module(name), class_name)
+                self.assertEqual(owner.__module__, module(name).__name__)
+                for told in listed:
+                    self.check(module(name), owner, told)
+
+    def test_numbers_and_fractions(self):
+        self.assertEqual(module("walking").STEPS, 4000)
+        self.assertEqual((module("fractions").ONE, module("fractions").NOUGHT), ((1, 1), (0, 1)))
