@@ -152,6 +152,64 @@ def plain_walk(clauses, rows, known):
     return known[clauses]
 
 
+def plain_shown_rows(form, shown):
+    """The SHOWN ROWS, a set of tuples."""
+    return {tuple(row[name] for name in shown) for row in plain_models(form)}
+
+
+def plain_projected_walk(clauses, shown, rows, known):
+    """The walk of shown names by calls within calls, all but the literals of "model"; tells the number of the row."""
+    if clauses in known:
+        return known[clauses]
+    names = plain_names(clauses)
+    units = sorted(clause[0] for clause in clauses if len(clause) == 1)
+    seen = [name for name in names if name in shown]
+
+    def need(name, truth):
+        left = plain_put(clauses, name, truth)
+        number = plain_projected_walk(left, shown, rows, known)
+        lost = [one for one in seen if one != name and one not in plain_names(left)]
+        return number, rows[number][1] * 2 ** len(lost)
+
+    if () in clauses:
+        row = (clauses, 0, ("void",))
+    elif not clauses:
+        row = (clauses, 1, ("free",))
+    elif not seen:
+        met = bool(plain_models((tuple(names), clauses)))
+        row = (clauses, 1, ("model",)) if met else (clauses, 0, ("never", plain_trail((tuple(names), clauses))))
+    elif units:
+        number, count = need(*units[0])
+        row = (clauses, count, ("unit", units[0], number))
+    elif len(plain_groups(clauses)) > 1:
+        numbers = tuple(plain_projected_walk(part, shown, rows, known) for part in plain_groups(clauses))
+        count = 1
+        for number in numbers:
+            count *= rows[number][1]
+        row = (clauses, count, ("parts", numbers))
+    else:
+        often = {name: sum(name in dict(clause) for clause in clauses) for name in seen}
+        name = min(seen, key=lambda one: (-often[one], one))
+        (low, low_count), (high, high_count) = need(name, False), need(name, True)
+        row = (clauses, low_count + high_count, ("split", name, low, high))
+    known[clauses] = len(rows)
+    rows.append(row)
+    return known[clauses]
+
+
+def plain_projected(form, shown):
+    """The PROJECTED TRAIL, all but the literals of "model"."""
+    rows = []
+    plain_projected_walk(form[1], shown, rows, {})
+    return tuple(rows)
+
+
+def some_of(seed, names):
+    """Some of the names, as they stand, none or all of them too."""
+    mixer = Mixer(seed + 9)
+    return tuple(name for name in names if mixer.below(2))
+
+
 def plain_trail(form):
     """The TRAIL by THE WALK."""
     rows = []

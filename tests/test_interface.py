@@ -20,6 +20,14 @@ FUNCTIONS = {
     "pairs": ["together(one, other)", "either(one, other)"],
     "trailchecker": ["lets_trail(form, thing)"],
     "walking": ["trail_of(form, *, most=4000)", "counted(form, *, most=4000)"],
+    "showing": ["projected(form, shown, *, most=4000)"],
+    "showchecker": ["lets_projected(form, shown, thing)"],
+    "circuits": ["is_circuit(thing)", "names_under(circuit, node)", "met_by(circuit, row)", "node_met(circuit, node, row)",
+                 "is_decomposed(circuit)"],
+    "refuting": ["refuted(circuit, node, literals)"],
+    "casechecker": ["lets_apart(circuit, one, other, thing)", "lets_parted(circuit)"],
+    "cases": ["apart(circuit, one, other)"],
+    "compiling": ["compiled(form)"],
 }
 CLASSES = {
     "counter": {"Counter": [

@@ -17,7 +17,7 @@ class Counter:
         ahead = len(laid.rows)
         known = walk_through(laid, form[1], most)
         row = laid.rows[laid.known[form[1]]]
-        return (shown_count(form, row[1]), len(laid.rows) - ahead, known)
+        return (shown_count(form[0], form[1], row[1]), len(laid.rows) - ahead, known)
 
     def knows(self, clauses):
         """Whether a row of the CLAUSES is KNOWN."""

@@ -1,4 +1,4 @@
-"""THE WALK of CLAUSES ([6]), done step by step: rows are laid, each behind those that it needs.
+"""THE WALK of CLAUSES ([6]), and that of shown names ([34]): rows are laid, each behind those that it needs.
 
 A list of WALKS that are being done stands in the place of calls within calls: a WALK may go
 down by as many names as there are, which may be hundreds.
@@ -8,13 +8,18 @@ from waycircuits.errors import NoMore
 from waycircuits.forms import names_in
 from waycircuits.grouping import groups
 from waycircuits.putting import put
-from waycircuits.tallying import row_count
+from waycircuits.settling import model_by
+from waycircuits.tallying import row_count, shown_among
 
 
 class Laid:
-    """Rows that were laid, of KNOWN clauses the numbers of their rows, and the WALKS that are being done."""
+    """Rows that were laid, of KNOWN clauses the numbers of their rows, and the WALKS that are being done.
 
-    def __init__(self):
+    Names that are shown are a dict's keys; None shows all, and the WALKS are as THE WALK tells.
+    """
+
+    def __init__(self, shown=None):
+        self.shown = shown
         self.rows = []
         self.known = {}
         self.doing = []
@@ -23,9 +28,9 @@ class Laid:
 class Walk:
     """The WALK of some clauses: its rule but for the numbers, what clauses it needs, how many of them it came to."""
 
-    def __init__(self, clauses):
+    def __init__(self, clauses, shown):
         self.clauses = clauses
-        self.rule, self.needs = step_of(clauses)
+        self.rule, self.needs = step_of(clauses, shown)
         self.reached = 0
 
 
@@ -53,14 +58,17 @@ def begin(laid, clauses):
     """Begin the WALK of the clauses, where no row of them is KNOWN; tell 1 where one is, else 0."""
     if clauses in laid.known:
         return 1
-    laid.doing.append(Walk(clauses))
+    laid.doing.append(Walk(clauses, laid.shown))
     return 0
 
 
 def lay(laid, walk):
     """Lay the row of a WALK, of which rows of all that it needs are KNOWN."""
-    rule = numbered(walk.rule, [laid.known[need] for need in walk.needs])
-    row = (walk.clauses, row_count(walk.clauses, rule, laid.rows), rule)
+    if walk.rule[0] == "hidden":
+        rule = settled(walk.clauses)
+    else:
+        rule = numbered(walk.rule, [laid.known[need] for need in walk.needs])
+    row = (walk.clauses, row_count(walk.clauses, rule, laid.rows, laid.shown), rule)
     laid.known[walk.clauses] = len(laid.rows)
     laid.rows.append(row)
 
@@ -72,37 +80,50 @@ def numbered(rule, numbers):
     return (*rule, *numbers)
 
 
-def step_of(clauses):
+def settled(clauses):
+    """The rule "model" or "never" of clauses without shown names, by a WALK of its own, however many rows that has."""
+    rows = laid_rows(clauses, None)
+    if rows[-1][1] == 0:
+        return ("never", tuple(rows))
+    return ("model", model_by(rows))
+
+
+def step_of(clauses, shown):
     """The first rule that can be, without numbers, and a tuple of the clauses whose rows it needs, in order.
 
     CLAUSES rise: so a () is the first of them, and of the CLAUSES of one LITERAL the first has the least.
+    "hidden" stands for "model" or "never": which one, is found where the row is laid.
     """
     if not clauses:
         return (("free",), ())
     if not clauses[0]:
         return (("void",), ())
+    names = shown_among(names_in(clauses), shown)
+    if not names:
+        return (("hidden",), ())
     units = [clause[0] for clause in clauses if len(clause) == 1]
     if units:
         return (("unit", units[0]), (put(clauses, units[0]),))
     parts = groups(clauses)
     if len(parts) > 1:
         return (("parts",), parts)
-    name = commonest(clauses)
+    name = commonest(clauses, names)
     return (("split", name), (put(clauses, (name, False)), put(clauses, (name, True))))
 
 
-def commonest(clauses):
-    """The name that stands in most of the clauses, of like ones the least."""
-    counts = {name: 0 for name in names_in(clauses)}
+def commonest(clauses, names):
+    """The one of the names, which rise, that stands in most of the clauses, of like ones the least."""
+    counts = {name: 0 for name in names}
     for clause in clauses:
         for name, _ in clause:
-            counts[name] += 1
+            if name in counts:
+                counts[name] += 1
     most = max(counts.values())
     return [name for name in counts if counts[name] == most][0]
 
 
-def laid_rows(clauses, most):
-    """The rows that THE WALK of the clauses lays where nothing is KNOWN at first, a list; or NoMore."""
-    laid = Laid()
+def laid_rows(clauses, most, shown=None):
+    """The rows that the WALK of the clauses lays where nothing is KNOWN at first, a list; or NoMore."""
+    laid = Laid(shown)
     walk_through(laid, clauses, most)
     return laid.rows

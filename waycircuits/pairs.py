@@ -26,4 +26,4 @@ def joined(one, other):
 
 def count_among(names, clauses):
     """How many ROWS of the NAMES MEET all the CLAUSES."""
-    return shown_count((names, clauses), laid_rows(clauses, None)[-1][1])
+    return shown_count(names, clauses, laid_rows(clauses, None)[-1][1])

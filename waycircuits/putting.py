@@ -1,7 +1,7 @@
 """LITERALS PUT into CLAUSES and into a FORM ([5], [12])."""
 
-from waycircuits.errors import NoName
 from waycircuits.literals import contrary
+from waycircuits.naming import look_for_names
 
 
 def put(clauses, literal):
@@ -23,8 +23,7 @@ def form_put(form, literal):
     """The FORM of the other NAMES, and the CLAUSES behind the LITERAL is PUT; or NoName."""
     names, clauses = form
     name = literal[0]
-    if name not in names:
-        raise NoName(name)
+    look_for_names(names, (name,))
     return (tuple([other for other in names if other != name]), put(clauses, literal))
 
 

@@ -11,30 +11,27 @@ from waycircuits.words import is_number, is_word
 
 def lets_trail(form, thing):
     """The count that the thing SHOWS, a TRAIL OF the FORM; or NoPaper(word, at)."""
-    look_at_shapes(thing)
+    look_at_shapes(thing, is_rule)
     for number in range(len(thing)):
         look_at_row(thing, number)
-    clauses, count, _ = thing[-1]
-    if clauses != form[1]:
-        raise NoPaper("form", -1)
-    return shown_count(form, count)
+    return count_at_end(form, thing, form[0])
 
 
-def look_at_shapes(thing):
-    """Refuse a thing that is no tuple of rows by kind, one or more."""
+def look_at_shapes(thing, fits):
+    """Refuse a thing that is no tuple of rows by kind, one or more; fits tells whether any thing is a rule by kind."""
     if not isinstance(thing, tuple) or not thing:
         raise NoPaper("shape", -1)
     for number, row in enumerate(thing):
-        if not is_row(row):
+        if not is_row(row, fits):
             raise NoPaper("shape", number)
 
 
-def is_row(thing):
+def is_row(thing, fits):
     """Whether the thing is a triple of CLAUSES, a NUMBER from 0 on, and a rule by kind."""
     if not isinstance(thing, tuple) or len(thing) != 3:
         return False
     clauses, count, rule = thing
-    return are_clauses(clauses) and is_number(count) and count >= 0 and is_rule(rule)
+    return are_clauses(clauses) and is_number(count) and count >= 0 and fits(rule)
 
 
 def is_rule(thing):
@@ -59,12 +56,17 @@ def are_some(thing):
 def look_at_row(rows, number):
     """Refuse a row whose rule leads elsewhere, or tells what isn't so, or whose count is another one."""
     clauses, count, rule = rows[number]
-    if not all([0 <= needed < number for needed in needed_by(rule)]):
-        raise NoPaper("ahead", number)
+    look_ahead(rule, number)
     if not rule_holds(clauses, rule, rows):
         raise NoPaper("rule", number)
     if count != row_count(clauses, rule, rows):
         raise NoPaper("count", number)
+
+
+def look_ahead(rule, number):
+    """Refuse the rule of this row where a number in it is none of a row ahead."""
+    if not all([0 <= needed < number for needed in needed_by(rule)]):
+        raise NoPaper("ahead", number)
 
 
 def needed_by(rule):
@@ -92,3 +94,11 @@ def rule_holds(clauses, rule, rows):
     if rule[1] not in names_in(clauses):
         return False
     return behind == (put(clauses, (rule[1], False)), put(clauses, (rule[1], True)))
+
+
+def count_at_end(form, rows, shown):
+    """The last row's count, times 2 for each shown name in none of its clauses, which have to be the FORM's."""
+    clauses, count, _ = rows[-1]
+    if clauses != form[1]:
+        raise NoPaper("form", -1)
+    return shown_count(shown, clauses, count)

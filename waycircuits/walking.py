@@ -13,4 +13,4 @@ def trail_of(form, *, most=STEPS):
 
 def counted(form, *, most=STEPS):
     """The COUNT of the FORM by THE WALK; or NoMore as of the TRAIL."""
-    return shown_count(form, laid_rows(form[1], most)[-1][1])
+    return shown_count(form[0], form[1], laid_rows(form[1], most)[-1][1])
