@@ -1,8 +1,10 @@
 """CIRCUITS for the tests: by kind alone, WELL BUILT ones, and what points tell of them, once more and plainly."""
 
+from fractions import Fraction
 from itertools import combinations, product
 
 from tests.samples import Mixer, mixed_form
+from waycircuits.circuits import is_circuit
 from waycircuits.compiling import compiled
 
 NAMES = ("a", "b", "c", "d", "e")
@@ -208,3 +210,116 @@ def compiled_circuits(many, **more):
 def chain_circuit(top=("true",), many=119):
     """A NODE, and behind it NODES each of which has the one ahead twice: ever more places, no more NODES."""
     return ((), (top, *[("and", (number, number)) for number in range(many)]))
+
+
+WEIGHTS = (
+    ("a", (1, 2), (-3, 4)), ("c", (0, 1), (5, 1)), ("d", (-2, 3), (-2, 3)), ("e", (7, 2), (-5, 1)), ("zz", (9, 1), (9, 1)))
+FREES = ((1, 1), (0, 1), (-2, 3))
+
+
+def plain_pairs(names, weights, free):
+    """Of each name what it weighs False, True, as Fractions."""
+    told = {name: (Fraction(*no), Fraction(*yes)) for name, no, yes in weights}
+    return {name: told.get(name, (Fraction(*free), Fraction(*free))) for name in names}
+
+
+def plain_weight_of(names, row, weights, free):
+    weight = Fraction(1)
+    for (no, yes), truth in zip(plain_pairs(names, weights, free).values(), row):
+        weight *= yes if truth else no
+    return weight
+
+
+def as_pair(fraction):
+    return (fraction.numerator, fraction.denominator)
+
+
+def plain_times(one, other):
+    """Two STRETCHES multiplied."""
+    ends = [first * second for first in one for second in other]
+    return (min(ends), max(ends))
+
+
+def plain_sides(circuit, number, bounds, pairs):
+    """The STRETCHES that BOUNDS of a NODE have to have in them, from left to right; bounds are of Fractions."""
+    node = circuit[1][number]
+    point = (Fraction(1), Fraction(1))
+    if node[0] == "true":
+        return [point]
+    if node[0] == "literal":
+        return [(pairs[node[1]][node[2]],) * 2]
+    if node[0] == "and":
+        for one in node[1]:
+            point = point and bounds[one] and plain_times(point, bounds[one])
+        return [point] if point else []
+    found = []
+    for turn, side in enumerate(node_inner(node)):
+        if bounds[side] is not None:
+            free = plain_under(circuit, number) - plain_under(circuit, side)
+            stretch = bounds[side]
+            if node[0] == "split":
+                stretch = plain_times(stretch, (pairs[node[1]][turn],) * 2)
+                free.discard(node[1])
+            for name in free:
+                stretch = plain_times(stretch, (min(pairs[name]), max(pairs[name])))
+            found.append(stretch)
+    return found
+
+
+def plain_fault(circuit, weights, free, bounds):
+    """The number of the first NODE whose BOUNDS don't HOLD, None where all do."""
+    names, nodes = circuit
+    pairs = plain_pairs(names, weights, free)
+    told = [None if bound is None else (Fraction(*bound[0]), Fraction(*bound[1])) for bound in bounds]
+    for number in range(len(nodes)):
+        sides = plain_sides(circuit, number, told, pairs)
+        bound = told[number]
+        if bound is None:
+            if sides:
+                return number
+        elif bound[0] > bound[1] or not all(bound[0] <= least and most <= bound[1] for least, most in sides):
+            return number
+    return None
+
+
+def plain_reach(circuit, weights, free, bounds):
+    """The REACH by these BOUNDS, of Fractions; the ROOT's aren't None."""
+    pairs = plain_pairs(circuit[0], weights, free)
+    reach = tuple(Fraction(*end) for end in bounds[-1])
+    for name in set(circuit[0]) - plain_under(circuit, len(bounds) - 1):
+        reach = plain_times(reach, (min(pairs[name]), max(pairs[name])))
+    return reach
+
+
+def plain_turned(circuit, names):
+    """The CIRCUIT TURNED by forgotten names, its "or" NODES without papers."""
+    def turn(node):
+        if node[0] in ("literal", "split") and node[1] in names:
+            return ("true",) if node[0] == "literal" else ("or", node[2:])
+        return node[:2] if node[0] == "or" else node
+    return (tuple(name for name in circuit[0] if name not in names), tuple(turn(node) for node in circuit[1]))
+
+
+def plain_unparted(circuit):
+    """The least REACHED "or" two of whose nodes a ROW MEETS both, with all such ROWS; None where there is none."""
+    names, nodes = circuit
+    for number in sorted(plain_come_to(nodes, len(nodes) - 1)):
+        if nodes[number][0] == "or":
+            rows = [tuple(row.values()) for row in plain_rows_of(names)
+                    if sum(plain_met(nodes, inner, row) for inner in nodes[number][1]) > 1]
+            if rows:
+                return number, rows
+    return None
+
+
+def well_built(circuit):
+    """Whether the thing is a WELL BUILT CIRCUIT, by the plain ways."""
+    return is_circuit(circuit) and plain_decomposed(circuit) and plain_parted(circuit) is None
+
+
+def some_circuits():
+    """WELL BUILT CIRCUITS of all sorts, ones without MODELS among them."""
+    forms = [((), ()), ((), ((),)), (("a",), ()), (("a", "b"), ((("a", True),), (("b", False),)))]
+    return [
+        *built_circuits(70), *built_circuits(20, names=("a", "b")), *compiled_circuits(40), *map(compiled, forms),
+        *compiled_circuits(20, names=NAMES, most=3), chain_circuit(), chain_circuit(("false",)), ((), (("or", (), ()),))]

@@ -28,6 +28,16 @@ FUNCTIONS = {
     "casechecker": ["lets_apart(circuit, one, other, thing)", "lets_parted(circuit)"],
     "cases": ["apart(circuit, one, other)"],
     "compiling": ["compiled(form)"],
+    "counting": ["circuit_count(circuit)", "circuit_trues(circuit)", "circuit_literals(circuit)",
+                 "weighed(circuit, weights, *, free=(1, 1))"],
+    "extremes": ["heaviest(circuit, weights, *, free=(1, 1))", "lightest(circuit, weights, *, free=(1, 1))"],
+    "boundchecker": ["lets_heaviest(circuit, weights, thing, *, free=(1, 1))",
+                     "lets_lightest(circuit, weights, thing, *, free=(1, 1))"],
+    "equalchecker": ["lets_equal(form, circuit, thing)"],
+    "equal": ["equal_or_row(form, circuit)"],
+    "numbers": ["model_at(circuit, number)", "number_of(circuit, row)", "drawn(circuit, digits, *, base=10)"],
+    "conditioning": ["conditioned(circuit, literals)"],
+    "forgetting": ["forgotten(circuit, names)"],
 }
 CLASSES = {
     "counter": {"Counter": [

@@ -109,9 +109,14 @@ class Told(unittest.TestCase):
             self.assertEqual(without_literals(trail), plain_projected(form, shown))
             self.assertEqual(count, len(plain_shown_rows(form, shown)))
 
+    def test_literals_of_model_behind_a_side_that_has_none(self):
+        form = (("a", "b"), ((A, B), (A, NOT_B)))
+        self.assertIn(A, projected((form[0], tuple(sorted(form[1]))), ())[1][0][2][1])
+
     def test_literals_of_model(self):
-        for seed, form in enumerate(mixed_forms(120)):
-            for clauses, _, rule in projected(form, some_of(seed, form[0]))[1]:
+        forms = [(form, shown) for form in all_small_forms() for shown in subsets(form[0])]
+        for form, shown in [*forms, *((form, some_of(seed, form[0])) for seed, form in enumerate(mixed_forms(120)))]:
+            for clauses, _, rule in projected(form, shown)[1]:
                 if rule[0] == "model":
                     self.assertEqual(rule[1], tuple(sorted(dict(rule[1]).items())))
                     self.assertTrue(all(set(clause) & set(rule[1]) for clause in clauses))

@@ -1,4 +1,4 @@
-"""FRACTIONS: whether any thing is one; added, multiplied ([5], [16])."""
+"""FRACTIONS: whether any thing is one; added, multiplied, compared ([5], [16])."""
 
 from math import gcd
 
@@ -26,6 +26,11 @@ def plus(one, other):
 def times(one, other):
     """Both FRACTIONS multiplied."""
     return lowest(one[0] * other[0], one[1] * other[1])
+
+
+def less(one, other):
+    """Whether the one FRACTION is less than the other."""
+    return one[0] * other[1] < other[0] * one[1]
 
 
 def lowest(over, under):

@@ -30,3 +30,25 @@ def is_out(thing):
     if not isinstance(thing, tuple) or len(thing) != 2:
         return False
     return thing[0] == "out" and is_number(thing[1]) and 0 <= thing[1] <= 1
+
+
+def tree_put(tree, truths):
+    """The CASE TREE without the names of these truths: behind each "case" of one it goes on by the truth alone."""
+    path = []
+    left = tree
+    while True:
+        while left[0] == "case":
+            _, name, low, high = left
+            if name in truths:
+                left = high if truths[name] else low
+            else:
+                path.append((name, None, high))
+                left = low
+        while path and path[-1][1] is not None:
+            name, low, _ = path.pop()
+            left = ("case", name, low, left)
+        if not path:
+            return left
+        name, _, high = path.pop()
+        path.append((name, left, None))
+        left = high
