@@ -38,6 +38,14 @@ FUNCTIONS = {
     "numbers": ["model_at(circuit, number)", "number_of(circuit, row)", "drawn(circuit, digits, *, base=10)"],
     "conditioning": ["conditioned(circuit, literals)"],
     "forgetting": ["forgotten(circuit, names)"],
+    "follows": ["against(circuit, literal)", "backbone(circuit)", "tied(circuit, one, other)", "ties(circuit)"],
+    "diagrams": ["is_diagram(thing)", "diagram_met(diagram, row)", "diagram_count(diagram)"],
+    "drawing": ["diagram_of(form, *, order=())", "diagram_from(circuit, *, order=())"],
+    "joining": ["both(one, other)", "either_one(one, other)", "other_way(diagram)", "put_in(diagram, literals)",
+                "forgotten_in(diagram, names)"],
+    "same": ["same_or_row(one, other)"],
+    "fewest": ["fewest_paper(diagram)"],
+    "fewestchecker": ["lets_fewest(diagram, thing)"],
 }
 CLASSES = {
     "counter": {"Counter": [
