@@ -46,11 +46,24 @@ FUNCTIONS = {
     "same": ["same_or_row(one, other)"],
     "fewest": ["fewest_paper(diagram)"],
     "fewestchecker": ["lets_fewest(diagram, thing)"],
+    "pages": ["is_moment(thing)", "is_page(thing)"],
+    "books": ["is_book(thing)", "in_order(pages)", "joined(one, other)", "up_to(book, until=None)"],
+    "views": ["idle(book, until=None)", "form_at(book, until=None)", "weights_at(book, until=None)",
+              "shown_at(book, until=None)"],
+    "asks": ["count_at(book, until=None, *, most=4000)", "shown_count_at(book, until=None, *, most=4000)",
+             "weight_at(book, until=None, *, free=(1, 1))"],
+    "texts": ["page_line(page)", "book_lines(book)", "form_lines(form)"],
+    "readings": ["read_page(text)", "read_book(lines)", "read_form(lines)"],
 }
 CLASSES = {
     "counter": {"Counter": [
         "ask(self, form, *, most=4000)", "knows(self, clauses)", "depth(self)", "clear(self)", "__len__(self)",
         "__str__(self)", "__eq__(self, other)", "__ne__(self, other)", "__init__(self)"]},
+    "session": {"Session": [
+        "tell(self, thing)", "strike(self, thing)", "take_in(self, other)", "tell_all(self, things, *, keep=False)",
+        "back(self)", "book(self)", "elder(self, k)", "asked(self, *, most=4000)", "__len__(self)", "__str__(self)",
+        "__eq__(self, other)", "__ne__(self, other)", "__init__(self)"]},
+    "desk": {"Desk": ["say(self, row)", "__init__(self)"]},
 }
 
 

@@ -15,7 +15,7 @@ BUILTINS = {
 METHODS = set((
     "append clear copy count endswith extend find get index insert isalnum isalpha isdigit islower isspace isupper items "
     "join keys ljust lower lstrip partition pop remove replace reverse rfind rjust rpartition rsplit rstrip setdefault "
-    "split splitlines startswith strip update upper values zfill bit_length").split())
+    "split splitlines startswith strip update upper values zfill bit_length removeprefix").split())
 BARRED = set((
     "register mro elements open input law version_info with_traceback add_note attrgetter breakpoint builtins compile "
     "copyright credits delattr dir eval exec exit gc globals help id importlib license locals methodcaller os quit super "
@@ -67,9 +67,18 @@ class Language(unittest.TestCase):
                     self.assertTrue(at == 0 and isinstance(node.value, ast.Constant), stem)
                 elif isinstance(node, ast.Assign):
                     self.assertEqual(len(node.targets), 1)
-                    ast.literal_eval(node.value)
+                    self.assertTrue(self.is_plain(node.value, {one.name for one in tree.body[:at] if isinstance(one, ast.FunctionDef)}))
                 else:
                     self.assertIsInstance(node, (ast.ImportFrom, ast.FunctionDef, ast.ClassDef), stem)
+
+    def is_plain(self, value, functions):
+        """Whether a value at module level is a literal, or a dict of literals and functions that are defined above."""
+        if isinstance(value, ast.Dict):
+            return all(isinstance(key, ast.Constant) and self.is_plain(one, functions) for key, one in zip(value.keys, value.values))
+        if isinstance(value, ast.Name):
+            return value.id in functions
+        ast.literal_eval(value)
+        return not isinstance(value, (ast.List, ast.Set))
 
     def test_nodes_that_are_not_used(self):
         for stem, tree in TREES.items():
